@@ -1,0 +1,1 @@
+"""Nolitter: programs that run back, and leave nothing behind."""
