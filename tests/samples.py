@@ -62,3 +62,36 @@ def random_state(seed, program):
     chance = random.Random(seed)
     top = 2 ** program[0]
     return [chance.choice((0, top - 1, chance.randrange(top))) for name in program[1]]
+
+
+def random_code_row(chance, size):
+    """A row of code that isn't a go or a come."""
+    first, second, third = chance.sample(range(size), 3)
+    kind = chance.choice(("add", "take", "turn", "swap"))
+    if kind in ("add", "take"):
+        number = chance.choice((0, 1, 2, 2 ** 31, 2 ** 32 - 1, chance.randrange(2 ** 32)))
+        return (kind, first, chance.choice((("box", second), ("num", number))))
+    if kind == "swap":
+        return ("swap", first, second)
+    conds = ((second, chance.choice((0, 0, 1, 31))), (chance.choice((second, third)), chance.choice((0, 1, 31))))
+    return ("turn", first, chance.choice((0, 1, 31)), conds[:chance.randrange(3)])
+
+
+def random_code(seed, most_rows=14):
+    """A code that is let by, with goes and comes in any order."""
+    chance = random.Random(seed)
+    size = chance.randrange(3, 6)
+    rows = [random_code_row(chance, size) for count in range(chance.randrange(most_rows + 1))]
+    places = list(range(len(rows)))
+    chance.shuffle(places)
+    for pair in range(chance.randrange(len(rows) // 2 + 1)):
+        go, come = places[2 * pair], places[2 * pair + 1]
+        box, number = chance.randrange(size), chance.choice((0, 0, 1, 2))
+        rows[go] = ("go", box, number, come)
+        rows[come] = ("come", box, number, go)
+    return (size, rows)
+
+
+def random_boxes(seed, size):
+    chance = random.Random(seed)
+    return [chance.choice((0, 0, 1, 2, 3, 2 ** 32 - 1, chance.randrange(2 ** 32))) for box in range(size)]
