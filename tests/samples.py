@@ -4,7 +4,7 @@ import random
 
 SIGNS = ("+", "-", "&", "|", "^", "<", "=")
 WORDS = ("wide", "boxes", "choose", "else", "end", "times")
-NAMES = ("a", "b", "end" + "s", "wid", "abcdefgh", "z")
+NAMES = ("a", "b", "ends", "wid", "abcdefgh", "z")
 
 
 def choose(condition, yes=(), no=()):
