@@ -92,6 +92,50 @@ def random_code(seed, most_rows=14):
     return (size, rows)
 
 
+def is_row_of_code(row):
+    """Whether a row has the form of one, whatever its numbers."""
+    forms = {"add": 3, "take": 3, "turn": 4, "swap": 3, "go": 4, "come": 4}
+    if type(row) is not tuple or len(row) != forms.get(row[0]):
+        return False
+    numbers = list(row[1:])
+    if row[0] in ("add", "take"):
+        kind, number = numbers.pop()
+        numbers.append(number if kind in ("box", "num") and type(row[2]) is tuple else None)
+    if row[0] == "turn":
+        conds = numbers.pop()
+        if type(conds) is not tuple or len(conds) > 2:
+            return False
+        for cond in conds:
+            numbers.extend(cond if type(cond) is tuple and len(cond) == 2 else [None])
+    return all(type(number) is int and number >= 0 for number in numbers)
+
+
 def random_boxes(seed, size):
     chance = random.Random(seed)
     return [chance.choice((0, 0, 1, 2, 3, 2 ** 32 - 1, chance.randrange(2 ** 32))) for box in range(size)]
+
+
+def moves_let(stand, n, s):
+    """The lays and clears that the rules let where just the marks of a set stand."""
+    told = []
+    for k in range(1, n + 1):
+        if k == 1 or k - 1 in stand:
+            if k in stand:
+                told.append(("clear", k))
+            elif len(stand) < s:
+                told.append(("lay", k))
+    return told
+
+
+def random_way(seed, n, s, many):
+    """A way of so many moves by the rules, going up more often than down."""
+    chance = random.Random(seed)
+    way, stand = [], set()
+    for count in range(many):
+        moves = moves_let(stand, n, s)
+        if not moves:
+            break
+        move = max(chance.sample(moves, min(len(moves), chance.choice((1, 2)))), key=lambda move: move[1])
+        way.append(move)
+        stand ^= {move[1]}
+    return way
