@@ -115,6 +115,14 @@ def random_boxes(seed, size):
     return [chance.choice((0, 0, 1, 2, 3, 2 ** 32 - 1, chance.randrange(2 ** 32))) for box in range(size)]
 
 
+def lay(*marks):
+    return [("lay", k) for k in marks]
+
+
+def clear(*marks):
+    return [("clear", k) for k in marks]
+
+
 def moves_let(stand, n, s):
     """The lays and clears that the rules let where just the marks of a set stand."""
     told = []
@@ -139,3 +147,31 @@ def random_way(seed, n, s, many):
         way.append(move)
         stand ^= {move[1]}
     return way
+
+
+def least_works(costs, s):
+    """For each set of marks that ways by the rules lead to, the least work of one, by looking at all of them."""
+    found = {frozenset(): 0}
+    again = [frozenset()]
+    while again:
+        stand = again.pop()
+        for kind, k in moves_let(stand, len(costs), s):
+            other, sums = stand ^ {k}, found[stand] + costs[k - 1]
+            if sums < found.get(other, sums + 1):
+                found[other] = sums
+                again.append(other)
+    return found
+
+
+def random_costs(seed, n):
+    """Costs alike, rising, falling, or any."""
+    chance = random.Random(seed)
+    kind = chance.randrange(6)
+    if kind == 0:
+        return [chance.choice((1, 7, 10 ** 9))] * n
+    if kind in (1, 2):
+        rising = sorted(chance.choice((1, 2, 5, 2 ** chance.randrange(30))) for k in range(n))
+        return rising if kind == 1 else rising[::-1]
+    if kind == 3:
+        return [chance.choice((1, 10 ** 9)) for k in range(n)]
+    return [chance.randrange(1, 20) for k in range(n)]

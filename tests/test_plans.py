@@ -5,17 +5,9 @@ import unittest
 
 from nolitter.errors import BadPlan
 from nolitter.plans import checked, most_marks, sets_along, turned_plan, work
-from tests.samples import random_way
+from tests.samples import clear, lay, random_way
 
 SHOW = ("show",)
-
-
-def lay(*marks):
-    return [("lay", k) for k in marks]
-
-
-def clear(*marks):
-    return [("clear", k) for k in marks]
 
 
 def told(plan, n, s):
