@@ -123,6 +123,11 @@ def clear(*marks):
     return [("clear", k) for k in marks]
 
 
+def number_of(stand):
+    """The number by which a set of marks is told."""
+    return sum(2 ** (k - 1) for k in stand)
+
+
 def moves_let(stand, n, s):
     """The lays and clears that the rules let where just the marks of a set stand."""
     told = []
