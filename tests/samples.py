@@ -154,6 +154,25 @@ def random_way(seed, n, s, many):
     return way
 
 
+def wandering(seed, plan, n, s, many):
+    """A plan into which so many ways to and fro are put, by the rules, wherever they may be."""
+    chance = random.Random(seed)
+    for count in range(many):
+        at = chance.randrange(len(plan) + 1)
+        stand = set()
+        for move in plan[:at]:
+            stand ^= set(move[1:])
+        detour = []
+        for again in range(chance.randrange(1, 5)):
+            moves = moves_let(stand, n, s)
+            if moves:
+                detour.append(chance.choice(moves))
+                stand ^= {detour[-1][1]}
+        back = [("clear" if word == "lay" else "lay", k) for word, k in reversed(detour)]
+        plan = plan[:at] + detour + back + plan[at:]
+    return plan
+
+
 def least_works(costs, s):
     """For each set of marks that ways by the rules lead to, the least work of one, by looking at all of them."""
     found = {frozenset(): 0}
